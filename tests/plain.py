@@ -1,0 +1,195 @@
+"""What DOC.md says of meaning and stands, word by word and without any haste, to hold the program against."""
+
+import random
+
+from surewatch.sayings import put_for
+from surewatch.tables import happenings_of, passes
+
+TABLE = (("a", 2), ("b", 2))
+SMALL = (("a", 1), ("b", 0))
+# A thing of each wrong kind, to be put where something else is wanted.
+STRANGE = (None, True, False, 0, 1, -1, 7, 10 ** 19, "", "a", "yes", "any", (), [], ((),), [[]], (None,), (True,),
+           ("a",), ["a"], ("a", 1), ("yes",), ["yes"], (("yes",),), ((("now", ("any",)), True),), ("now",), (1, 2, 3))
+
+
+def plain_holds(saying, row, place):
+    head = saying[0]
+    rest = range(place, len(row))
+    if head in ("yes", "no"):
+        return head == "yes"
+    if head == "now":
+        return place < len(row) and passes(saying[1], row[place])
+    if head == "not":
+        return not plain_holds(saying[1], row, place)
+    if head == "both":
+        return all(plain_holds(part, row, place) for part in saying[1:])
+    if head == "either":
+        return any(plain_holds(part, row, place) for part in saying[1:])
+    if head == "next":
+        return place < len(row) and plain_holds(saying[1], row, place + 1)
+    if head == "till":
+        return any(plain_holds(saying[2], row, there)
+                   and all(plain_holds(saying[1], row, between) for between in range(place, there)) for there in rest)
+    if head == "within":
+        return any(plain_holds(saying[2], row, there) for there in rest if there < place + saying[1])
+    if head == "always":
+        return all(plain_holds(saying[1], row, there) for there in rest)
+    if head == "some":
+        return any(plain_holds(saying[1], row, there) for there in rest)
+    told = [plain_holds(put_for(saying[3], saying[2], row[there][1]), row, there)
+            for there in rest if row[there][0] == saying[1]]
+    return all(told) if head == "each" else any(told)
+
+
+# A stand as a set of sets of things: the order of things and bunches, and how often they stand there, is gone.
+def as_sets(stand):
+    return frozenset(frozenset(bunch) for bunch in stand)
+
+
+def plain_trim(stand):
+    sound = [bunch for bunch in as_sets(stand) if not any((basic, not truth) in bunch for basic, truth in bunch)]
+    return frozenset(bunch for bunch in sound if not any(other < bunch for other in sound))
+
+
+def is_trimmed(stand):
+    once = all(len(set(bunch)) == len(bunch) for bunch in stand) and len(as_sets(stand)) == len(stand)
+    return once and plain_trim(stand) == as_sets(stand)
+
+
+def pairwise(one, other):
+    return [bunch + more for bunch in one for more in other]
+
+
+def sure(truth):
+    return [()] if truth else []
+
+
+def plain_laid(saying, truth):
+    head = saying[0]
+    if head in ("yes", "no"):
+        return sure((head == "yes") == truth)
+    if head == "not":
+        return plain_laid(saying[1], not truth)
+    if head in ("both", "either"):
+        one, other = plain_laid(saying[1], truth), plain_laid(saying[2], truth)
+        return pairwise(one, other) if (head == "both") == truth else one + other
+    return [((saying, truth),)]
+
+
+def plain_gone_saying(saying, truth, happening):
+    def on(part):
+        return plain_gone_saying(part, truth, happening)
+
+    def wide(one, other):
+        return one + other if truth else pairwise(one, other)
+
+    def tight(one, other):
+        return pairwise(one, other) if truth else one + other
+
+    head, itself = saying[0], plain_laid(saying, truth)
+    if head in ("yes", "no"):
+        return itself
+    if head == "not":
+        return plain_gone_saying(saying[1], not truth, happening)
+    if head in ("both", "either"):
+        return (tight if head == "both" else wide)(on(saying[1]), on(saying[2]))
+    if head == "now":
+        return sure(passes(saying[1], happening) == truth)
+    if head == "next":
+        return plain_laid(saying[1], truth)
+    if head == "till":
+        return wide(on(saying[2]), tight(on(saying[1]), itself))
+    if head == "within":
+        if saying[1] == 0:
+            return sure(not truth)
+        if saying[1] == 1:
+            return on(saying[2])
+        return wide(on(saying[2]), plain_laid(("within", saying[1] - 1, saying[2]), truth))
+    if head == "always":
+        return tight(on(saying[1]), itself)
+    if head == "some":
+        return wide(on(saying[1]), itself)
+    if happening[0] != saying[1]:
+        return itself
+    part = on(put_for(saying[3], saying[2], happening[1]))
+    return tight(part, itself) if head == "each" else wide(part, itself)
+
+
+def plain_gone(stand, happening):
+    found = []
+    for bunch in stand:
+        later = [()]
+        for basic, truth in bunch:
+            later = [tuple(more) for more in plain_trim(pairwise(later, plain_gone_saying(basic, truth, happening)))]
+        found += later
+    return tuple(tuple(bunch) for bunch in plain_trim(found))
+
+
+# Without a bound on how many there are.
+def plain_met(table, stand):
+    found = [tuple(tuple(bunch) for bunch in plain_trim(stand))]
+    seen = {as_sets(found[0])}
+    for one in found:
+        for happening in happenings_of(table):
+            later = plain_gone(one, happening)
+            if as_sets(later) not in seen:
+                seen.add(as_sets(later))
+                found.append(later)
+    return found
+
+
+class Maker:
+    """Makes sayings, rows and stands, the same ones for the same seed."""
+
+    def __init__(self, seed):
+        self.random = random.Random(seed)
+        self.binders = 3
+
+    def pick(self, things):
+        return self.random.choice(things)
+
+    def test(self, bound):
+        head = self.pick(("any", "name", "less", "same", "more"))
+        if head == "any":
+            return ("any",)
+        if head == "name":
+            return ("name", self.pick("ab"))
+        return (head, self.pick(bound + (0, 1, 2)))
+
+    def part(self, count, deep, bound):
+        if count == 1 or deep == 1:
+            return self.pick((("yes",), ("no",)) + 6 * (("now", self.test(bound)),))
+        heads = ["not", "next", "within", "always", "some"]
+        heads += 2 * ["both", "either", "till"] if count > 2 else []
+        heads += ["each", "one"] if self.binders > 0 else []
+        head = self.pick(heads)
+        if head in ("both", "either", "till"):
+            first = self.random.randint(1, count - 2)
+            return (head, self.part(first, deep - 1, bound), self.part(count - 1 - first, deep - 1, bound))
+        if head == "within":
+            return (head, self.random.randint(0, 5), self.part(count - 1, deep - 1, bound))
+        if head in ("each", "one"):
+            self.binders -= 1
+            x = self.pick("xy")
+            return (head, self.pick("ab"), x, self.part(count - 1, deep - 1, bound + (x,)))
+        return (head, self.part(count - 1, deep - 1, bound))
+
+    def saying(self, most=12):
+        self.binders = 3
+        return self.part(self.random.randint(1, most), 8, ())
+
+    def basic(self, most=8):
+        while True:
+            saying = self.saying(most)
+            if saying[0] not in ("yes", "no", "not", "both", "either"):
+                return saying
+
+    def row(self, table, most):
+        happenings = happenings_of(table)
+        return tuple(self.pick(happenings) for _ in range(self.random.randint(0, most)))
+
+    # Few basics stand in it over and over, so that voids, things told twice and bunches within others come up.
+    def stand(self, bunches=4, things=3):
+        basics = [self.basic() for _ in range(3)]
+        return tuple(tuple((self.pick(basics), self.pick((True, False))) for _ in range(self.random.randint(0, things)))
+                     for _ in range(self.random.randint(0, bunches)))

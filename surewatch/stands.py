@@ -1,0 +1,59 @@
+"""Stands: which things are ones, trimming, laying sayings, and what is shown, ended and fitted."""
+
+from surewatch.bunches import Marks, has_one_within, laid_marks
+from surewatch.meaning import truths_of
+from surewatch.sayings import is_basic
+from surewatch.words import is_tuple
+
+
+def is_thing(thing):
+    return is_tuple(thing, 2, 2) and isinstance(thing[1], bool) and is_basic(thing[0])
+
+
+def is_bunch(thing):
+    return isinstance(thing, tuple) and all([is_thing(part) for part in thing])
+
+
+def is_stand(thing):
+    return isinstance(thing, tuple) and all([is_bunch(bunch) for bunch in thing])
+
+
+def trimmed(stand):
+    marks = Marks()
+    return marks.stand_of(marks.of_stand(stand))
+
+
+def alike(one, other):
+    marks = Marks()
+    return marks.of_stand(one) == marks.of_stand(other)
+
+
+def laid(saying, truth):
+    marks = Marks()
+    return marks.stand_of(laid_marks(marks, saying, truth))
+
+
+def shows(one, other):
+    marks = Marks()
+    wanted = marks.of_stand(other)
+    return all([has_one_within(mark, wanted) for mark in marks.of_stand(one)])
+
+
+def bunch_ends(bunch):
+    return all([(thing[0][0] in ("always", "each")) == thing[1] for thing in bunch])
+
+
+def ends(stand):
+    return any([bunch_ends(bunch) for bunch in stand])
+
+
+def fits_bunch(bunch, row, known):
+    for thing in bunch:
+        if truths_of(thing[0], row, known)[0] != thing[1]:
+            return False
+    return True
+
+
+def fits_stand(stand, row):
+    known = {}
+    return any([fits_bunch(bunch, row, known) for bunch in stand])

@@ -124,9 +124,9 @@ class RowTest(Refusing):
 
     def test_the_first_word_that_is_no_happening(self):
         for text, at in (("", 0), (" ", 0), ("a", 0), ("a.", 0), (".1", 0), ("a1", 0), ("a.3", 0), ("c.0", 0),
-                         ("A.1", 0), ("a.01", 0), ("a.1.1", 0), ("a.x", 0), ("a.-", 0), ("-a.1", 0), ("--", 0), ("- -", 0),
-                         ("a.1 -", 1), ("- a.1", 0), ("a.1 ", 1), (" a.1", 0), ("a.1  b.0", 1), ("a.0 b.9 c.9", 1),
-                         ("a.0 b.0 a.2 b.3", 3), ("a.0,b.0", 0), ("a.10", 0), ("abcdefghi.0", 0)):
+                         ("A.1", 0), ("a.01", 0), ("a.1.1", 0), ("a.x", 0), ("a.-", 0), ("-a.1", 0), ("--", 0),
+                         ("- -", 0), ("a.1 -", 1), ("- a.1", 0), ("a.1 ", 1), (" a.1", 0), ("a.1  b.0", 1),
+                         ("a.0 b.9 c.9", 1), ("a.0 b.0 a.2 b.3", 3), ("a.0,b.0", 0), ("a.10", 0), ("abcdefghi.0", 0)):
             self.refused(at, read_row, TABLE, text)
 
     def test_by_the_table(self):
@@ -144,7 +144,8 @@ class TableTest(Refusing):
 
     def test_no_name_and_most(self):
         for text, at in (("", 0), ("-", 0), ("a", 0), ("a.", 0), (".1", 0), ("A.1", 0), ("a.x", 0), ("a.01", 0),
-                         ("a.1.1", 0), ("abcdefghi.1", 0), ("a.1 ", 1), (" a.1", 0), ("a.1  b.1", 1), ("a.1 b", 1), ("a.1 b.1 -", 2)):
+                         ("a.1.1", 0), ("abcdefghi.1", 0), ("a.1 ", 1), (" a.1", 0), ("a.1  b.1", 1), ("a.1 b", 1),
+                         ("a.1 b.1 -", 2)):
             self.refused(at, read_table, text)
 
     def test_a_name_told_ahead(self):

@@ -105,6 +105,13 @@ def has_one_within(mark, marks):
     return False
 
 
+def marks_show(one, other):
+    for mark in one:
+        if not has_one_within(mark, other):
+            return False
+    return True
+
+
 def sure_marks(truth):
     return [NO_THINGS] if truth else []
 

@@ -73,6 +73,11 @@ class Walker:
             later.extend(self.bunch_on(mark, happening))
         return self.marks.trim(later)
 
+    def stand_by(self, stand, row):
+        for happening in row:
+            stand = self.stand_on(stand, happening)
+        return stand
+
 
 def gone_saying(saying, truth, happening):
     marks = Marks()
@@ -85,25 +90,32 @@ def gone(stand, happening):
 
 def gone_by(stand, row):
     walker = Walker()
-    marks = walker.marks.of_stand(stand)
-    for happening in row:
-        marks = walker.stand_on(marks, happening)
-    return walker.marks.stand_of(marks)
+    return walker.marks.stand_of(walker.stand_by(walker.marks.of_stand(stand), row))
 
 
 def met(table, stand):
+    return meetings(table, stand)[0]
+
+
+# The stands that a stand meets, and for each of them a tuple with the number, among them, of the stand that it goes
+# on to by each happening of the table.
+def meetings(table, stand):
     walker = Walker()
     found = [walker.marks.of_stand(stand)]
-    seen = {tuple(found[0]): True}
+    numbers = {tuple(found[0]): 0}
     happenings = happenings_of(table)
-    at = 0
-    while at < len(found):
+    nexts = []
+    while len(nexts) < len(found):
+        stand_now = found[len(nexts)]
+        leads = []
         for happening in happenings:
-            later = walker.stand_on(found[at], happening)
-            if tuple(later) not in seen:
+            later = walker.stand_on(stand_now, happening)
+            key = tuple(later)
+            if key not in numbers:
                 if len(found) == MOST_STANDS:
                     raise TooMany("stands")
-                seen[tuple(later)] = True
+                numbers[key] = len(found)
                 found.append(later)
-        at += 1
-    return [walker.marks.stand_of(marks) for marks in found]
+            leads.append(numbers[key])
+        nexts.append(tuple(leads))
+    return ([walker.marks.stand_of(marks) for marks in found], nexts)

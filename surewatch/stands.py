@@ -1,6 +1,6 @@
 """Stands: which things are ones, trimming, laying sayings, and what is shown, ended and fitted."""
 
-from surewatch.bunches import Marks, has_one_within, laid_marks
+from surewatch.bunches import Marks, laid_marks, marks_show
 from surewatch.meaning import truths_of
 from surewatch.sayings import is_basic
 from surewatch.words import is_tuple
@@ -35,8 +35,7 @@ def laid(saying, truth):
 
 def shows(one, other):
     marks = Marks()
-    wanted = marks.of_stand(other)
-    return all([has_one_within(mark, wanted) for mark in marks.of_stand(one)])
+    return marks_show(marks.of_stand(one), marks.of_stand(other))
 
 
 def bunch_ends(bunch):

@@ -37,6 +37,11 @@ def is_row(table, thing):
     return isinstance(thing, (tuple, list)) and all([is_happening(table, happening) for happening in thing])
 
 
+# Within papers no list does in the place of a row.
+def is_paper_row(table, thing):
+    return isinstance(thing, tuple) and is_row(table, thing)
+
+
 # bound: the variables that may stand in the place of a number.
 def is_test_among(thing, bound):
     if not is_tuple(thing, 1, 2):

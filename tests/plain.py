@@ -1,12 +1,15 @@
 """What DOC.md says of meaning and stands, word by word and without any haste, to hold the program against."""
 
+import itertools
 import random
 
+from surewatch.errors import SureError
 from surewatch.sayings import put_for
 from surewatch.tables import happenings_of, passes
 
 TABLE = (("a", 2), ("b", 2))
 SMALL = (("a", 1), ("b", 0))
+TWO = (("a", 0), ("b", 0))
 # A thing of each wrong kind, to be put where something else is wanted.
 STRANGE = (None, True, False, 0, 1, -1, 7, 10 ** 19, "", "a", "yes", "any", (), [], ((),), [[]], (None,), (True,),
            ("a",), ["a"], ("a", 1), ("yes",), ["yes"], (("yes",),), ((("now", ("any",)), True),), ("now",), (1, 2, 3))
@@ -138,6 +141,92 @@ def plain_met(table, stand):
     return found
 
 
+# What a call tells, or the class and the fields of its refusal; what is handed in has to stay as it was.
+def ask(call, *things):
+    before = repr(things)
+    try:
+        told = call(*things)
+    except SureError as error:
+        told = (type(error), vars(error))
+    if repr(things) != before:
+        raise AssertionError(f"{call.__name__} changed what was handed in: {before}")
+    return told
+
+
+# Shorter rows first, then by the table's order.
+def rows_up_to(table, most):
+    return [row for length in range(most + 1) for row in itertools.product(happenings_of(table), repeat=length)]
+
+
+def word_by(truths):
+    return "yes" if all(truths) else "open" if any(truths) else "no"
+
+
+# The verdict by each going-on of at most so many happenings, fits(row) telling which rows fit.
+def plain_word(table, fits, row, most):
+    return word_by([fits(tuple(row) + more) for more in rows_up_to(table, most)])
+
+
+def plain_led(table, nexts, spot, row):
+    for happening in row:
+        spot = nexts[spot][happenings_of(table).index(happening)]
+    return spot
+
+
+# The words that a machine tells of each row; rows of one happening less than it has spots part all that can be.
+def plain_told(table, machine, spot=0):
+    rows = rows_up_to(table, len(machine[0]) - 1)
+    return tuple(machine[1][plain_led(table, machine[0], spot, row)] for row in rows)
+
+
+def plain_reached(nexts):
+    found = {0}
+    while True:
+        more = found | {later for spot in found for later in nexts[spot]}
+        if more == found:
+            return found
+        found = more
+
+
+# The number of spots of the least machine that tells the same.
+def plain_count(table, machine):
+    return len({plain_told(table, machine, spot) for spot in plain_reached(machine[0])})
+
+
+# What 34 tells of numbers: None, or the spot that has a wrong one.
+def plain_number(nexts):
+    order = [0]
+    for spot in order:
+        for later in nexts[spot]:
+            if later not in order:
+                if later != len(order):
+                    return later
+                order.append(later)
+    return None if len(order) == len(nexts) else min(set(range(len(nexts))) - set(order))
+
+
+# What 34 tells of rows that part: None, or the least spot that is not parted from a lesser one.
+def plain_part(table, machine, rows):
+    lists = [[machine[1][plain_led(table, machine[0], spot, row)] for row in rows] for spot in range(len(machine[0]))]
+    return next((spot for spot in range(len(lists)) if lists[spot] in lists[:spot]), None)
+
+
+# A thing with another one in one place of its tuples: path has the numbers that lead there.
+def bent(thing, path, other):
+    if not path:
+        return other
+    return thing[:path[0]] + (bent(thing[path[0]], path[1:], other),) + thing[path[0] + 1:]
+
+
+# The paths to all things within a thing, itself too.
+def paths_in(thing):
+    paths = [()]
+    if isinstance(thing, tuple):
+        for at, part in enumerate(thing):
+            paths += [(at,) + path for path in paths_in(part)]
+    return paths
+
+
 class Maker:
     """Makes sayings, rows and stands, the same ones for the same seed."""
 
@@ -187,6 +276,13 @@ class Maker:
     def row(self, table, most):
         happenings = happenings_of(table)
         return tuple(self.pick(happenings) for _ in range(self.random.randint(0, most)))
+
+    def nexts(self, table, count):
+        return tuple(tuple(self.random.randrange(count) for _ in happenings_of(table)) for _ in range(count))
+
+    def machine(self, table, most, words=(True, False)):
+        count = self.random.randint(1, most)
+        return (self.nexts(table, count), tuple(self.pick(words) for _ in range(count)))
 
     # Few basics stand in it over and over, so that voids, things told twice and bunches within others come up.
     def stand(self, bunches=4, things=3):

@@ -4,12 +4,22 @@ import itertools
 import random
 
 from surewatch.errors import SureError
+from surewatch.reading import read_saying
 from surewatch.sayings import put_for
 from surewatch.tables import happenings_of, passes
 
 TABLE = (("a", 2), ("b", 2))
 SMALL = (("a", 1), ("b", 0))
 TWO = (("a", 0), ("b", 0))
+WIDE = (("a", 5), ("b", 5))
+# It meets just three hundred stands by TABLE.
+THREE_HUNDRED = read_saying(
+    "one a y each b x both each a z either now same 1 now same x till next next now more x now more y")
+# It meets one stand more than three hundred by WIDE.
+ONE_MORE = read_saying("each b z always till one b x now more x either either always now same 1 within 0 no now same z")
+# What the ops say.
+OPS = {"both": lambda one, other: one and other, "either": lambda one, other: one or other,
+       "but": lambda one, other: one and not other, "unlike": lambda one, other: one != other}
 # A thing of each wrong kind, to be put where something else is wanted.
 STRANGE = (None, True, False, 0, 1, -1, 7, 10 ** 19, "", "a", "yes", "any", (), [], ((),), [[]], (None,), (True,),
            ("a",), ["a"], ("a", 1), ("yes",), ["yes"], (("yes",),), ((("now", ("any",)), True),), ("now",), (1, 2, 3))
@@ -209,6 +219,13 @@ def plain_number(nexts):
 def plain_part(table, machine, rows):
     lists = [[machine[1][plain_led(table, machine[0], spot, row)] for row in rows] for spot in range(len(machine[0]))]
     return next((spot for spot in range(len(lists)) if lists[spot] in lists[:spot]), None)
+
+
+# A judge of two happenings, a ring of spots for the one of the column: spot 0 ends as told, the others otherwise;
+# by the other happening it stays.
+def ring(count, column=0, truth=True):
+    leads = [tuple((spot + 1) % count if at == column else spot for at in range(2)) for spot in range(count)]
+    return (tuple(leads), (truth,) + (not truth,) * (count - 1))
 
 
 # A thing with another one in one place of its tuples: path has the numbers that lead there.

@@ -5,13 +5,8 @@ from surewatch.going import gone, gone_by, gone_saying, met
 from surewatch.reading import read_saying
 from surewatch.stands import alike, ends, fits_stand, is_stand, laid, trimmed
 from surewatch.tables import happenings_of
-from tests.plain import SMALL, TABLE, Maker, as_sets, is_trimmed, plain_gone, plain_gone_saying, plain_met, plain_trim
-
-WIDE = (("a", 5), ("b", 5))
-# Sayings that meet just three hundred stands, and one more.
-THREE_HUNDRED = (
-    "one a y each b x both each a z either now same 1 now same x till next next now more x now more y", TABLE)
-ONE_MORE = ("each b z always till one b x now more x either either always now same 1 within 0 no now same z", WIDE)
+from tests.plain import (ONE_MORE, SMALL, TABLE, THREE_HUNDRED, WIDE, Maker, as_sets, is_trimmed, plain_gone,
+                         plain_gone_saying, plain_met, plain_trim)
 
 
 # A stand by texts: bunches parted by commas, things by semicolons, those with False behind a minus.
@@ -230,17 +225,16 @@ class MetTest(Going):
                 self.assertEqual([as_sets(one) for one in met(SMALL, stand)], [as_sets(one) for one in wanted], seed)
 
     def test_just_three_hundred(self):
-        saying, table = read_saying(THREE_HUNDRED[0]), THREE_HUNDRED[1]
-        told = met(table, laid(saying, True))
+        told = met(TABLE, laid(THREE_HUNDRED, True))
         self.assertEqual(len(told), 300)
-        self.assertEqual([as_sets(one) for one in told], [as_sets(one) for one in plain_met(table, laid(saying, True))])
+        wanted = plain_met(TABLE, laid(THREE_HUNDRED, True))
+        self.assertEqual([as_sets(one) for one in told], [as_sets(one) for one in wanted])
 
     def test_more_than_three_hundred(self):
-        saying, table = read_saying(ONE_MORE[0]), ONE_MORE[1]
-        self.assertEqual(len(plain_met(table, laid(saying, True))), 301)
-        for text in (ONE_MORE[0], "each a x each b y some both now same x next now same y"):
+        self.assertEqual(len(plain_met(WIDE, laid(ONE_MORE, True))), 301)
+        for saying in (ONE_MORE, read_saying("each a x each b y some both now same x next now same y")):
             with self.assertRaises(TooMany) as taken:
-                met(WIDE, laid(read_saying(text), True))
+                met(WIDE, laid(saying, True))
             self.assertEqual(taken.exception.word, "stands")
 
     def test_the_told_list_is_the_askers_own(self):

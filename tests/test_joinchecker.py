@@ -5,10 +5,8 @@ from surewatch.joinchecker import lets_joined
 from surewatch.joining import joined
 from surewatch.joinpapers import join_paper
 from surewatch.tables import happenings_of
-from tests.plain import STRANGE, TWO, Maker, ask, bent, paths_in, plain_number, plain_part
+from tests.plain import OPS, STRANGE, TWO, Maker, ask, bent, paths_in, plain_number, plain_part
 
-OPS = {"both": lambda one, other: one and other, "either": lambda one, other: one or other,
-       "but": lambda one, other: one and not other, "unlike": lambda one, other: one != other}
 SOME_A = (((1, 0), (1, 1)), (False, True))
 SOME_B = (((0, 1), (1, 1)), (False, True))
 BUT = (((1, 2), (1, 2), (2, 2)), (False, True, False))

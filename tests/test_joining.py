@@ -5,20 +5,12 @@ from surewatch.joining import joined, turned
 from surewatch.judges import is_judge, judge_of, judged, least_judge
 from surewatch.reading import read_saying
 from surewatch.stands import laid
-from tests.plain import SMALL, TABLE, TWO, Maker, ask, plain_count, plain_met, plain_number, rows_up_to
+from tests.plain import OPS, SMALL, TABLE, TWO, Maker, ask, plain_count, plain_met, plain_number, ring, rows_up_to
 
-OPS = {"both": lambda one, other: one and other, "either": lambda one, other: one or other,
-       "but": lambda one, other: one and not other, "unlike": lambda one, other: one != other}
 SPOTS = (TooMany, {"word": "spots"})
 SOME_A = (((1, 0), (1, 1)), (False, True))
 SOME_B = (((0, 1), (1, 1)), (False, True))
 a, b = ("a", 0), ("b", 0)
-
-
-# A ring for the happenings of the first name's number zero: its spot 0 ends as told; by the others it stays.
-def ring(count, truth=True, column=0, width=2):
-    leads = [tuple((spot + 1) % count if at == column else spot for at in range(width)) for spot in range(count)]
-    return (tuple(leads), (truth,) + (not truth,) * (count - 1))
 
 
 # A row of spots: the last one stays.
@@ -92,25 +84,25 @@ class JoinedTest(unittest.TestCase):
         self.assertEqual(told, ring(60))
         told = self.told(TWO, "both", ring(60), ring(30))
         self.assertEqual(told, ring(60))
-        told = self.told(TWO, "either", ring(60), ring(5, True, 1))
+        told = self.told(TWO, "either", ring(60), ring(5, 1))
         self.assertEqual(len(told[0]), 300)
         self.assertEqual(len(self.told(TWO, "both", chain(60), chain(59))[0]), 60)
         self.assertEqual(len(self.told(TWO, "either", chain(60), chain(59))[0]), 59)
 
     def test_more_than_three_hundred_spots(self):
-        self.assertEqual(len(self.told(TWO, "both", ring(20), ring(15, True, 1))[0]), 300)
-        self.assertEqual(ask(joined, TWO, "both", ring(43), ring(7, True, 1)), SPOTS)
-        self.assertEqual(ask(joined, TWO, "unlike", ring(60), ring(60, True, 1)), SPOTS)
+        self.assertEqual(len(self.told(TWO, "both", ring(20), ring(15, 1))[0]), 300)
+        self.assertEqual(ask(joined, TWO, "both", ring(43), ring(7, 1)), SPOTS)
+        self.assertEqual(ask(joined, TWO, "unlike", ring(60), ring(60, 1)), SPOTS)
         self.assertEqual(ask(joined, TWO, "both", ring(59), ring(60)), SPOTS)
 
     # Many pairs are come to, but few spots are needed.
     def test_what_counts_is_the_least_one(self):
-        nothing = (ring(60, True, 1)[0], (False,) * 60)
+        nothing = (ring(60, 1)[0], (False,) * 60)
         self.assertEqual(self.told(TWO, "both", ring(60), nothing), (((0, 0),), (False,)))
         self.assertEqual(self.told(TWO, "either", ring(60), nothing), ring(60))
 
     def test_what_is_told_may_be_handed_in_again(self):
-        great = joined(TWO, "both", ring(20), ring(15, True, 1))
+        great = joined(TWO, "both", ring(20), ring(15, 1))
         self.assertEqual(self.told(TWO, "both", great, great), great)
         self.assertEqual(self.told(TWO, "either", great, (((0, 0),), (False,))), great)
 
@@ -147,5 +139,5 @@ class TurnedTest(unittest.TestCase):
             self.assertEqual(ask(turned, SMALL, judge_of(SMALL, saying)), judge_of(SMALL, ("not", saying)))
 
     def test_more_than_three_hundred_spots(self):
-        self.assertEqual(ask(turned, TWO, ring(300)), ring(300, False))
+        self.assertEqual(ask(turned, TWO, ring(300)), ring(300, 0, False))
         self.assertEqual(ask(turned, TWO, ring(301)), SPOTS)

@@ -5,14 +5,7 @@ from surewatch.joinchecker import lets_joined
 from surewatch.joining import joined
 from surewatch.joinpapers import join_paper
 from surewatch.judges import judge_of
-from tests.plain import SMALL, TWO, Maker, ask
-
-OPS = ("both", "either", "but", "unlike")
-
-
-def ring(count, column=0):
-    leads = [tuple((spot + 1) % count if at == column else spot for at in range(2)) for spot in range(count)]
-    return (tuple(leads), (True,) + (False,) * (count - 1))
+from tests.plain import OPS, SMALL, TWO, Maker, ask, ring
 
 
 class JoinPaperTest(unittest.TestCase):

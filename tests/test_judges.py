@@ -4,13 +4,9 @@ from surewatch.errors import TooMany
 from surewatch.judges import first_rows, is_judge, judge_of, judged, least_judge, led
 from surewatch.meaning import fits
 from surewatch.reading import read_saying
-from tests.plain import (SMALL, STRANGE, TABLE, TWO, Maker, ask, bent, paths_in, plain_count, plain_holds, plain_led,
-                         plain_number, plain_told, rows_up_to)
+from tests.plain import (ONE_MORE, SMALL, STRANGE, TABLE, THREE_HUNDRED, TWO, WIDE, Maker, ask, bent, paths_in,
+                         plain_count, plain_holds, plain_led, plain_number, plain_told, ring, rows_up_to)
 
-WIDE = (("a", 5), ("b", 5))
-ONE_MORE = read_saying("each b z always till one b x now more x either either always now same 1 within 0 no now same z")
-THREE_HUNDRED = read_saying(
-    "one a y each b x both each a z either now same 1 now same x till next next now more x now more y")
 a, b = ("a", 0), ("b", 0)
 # Whether an a came.
 SOME_A = (((1, 0), (1, 1)), (False, True))

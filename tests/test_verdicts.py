@@ -7,14 +7,9 @@ from surewatch.reading import read_row, read_saying
 from surewatch.stands import ends, is_stand, laid
 from surewatch.tables import is_row
 from surewatch.verdicts import first_sure, verdict, word_of, words
-from tests.plain import (SMALL, TABLE, TWO, Maker, ask, is_trimmed, plain_holds, plain_met, plain_word, rows_up_to,
-                         word_by)
+from tests.plain import (ONE_MORE, SMALL, TABLE, THREE_HUNDRED, TWO, WIDE, Maker, ask, is_trimmed, plain_holds,
+                         plain_met, plain_word, rows_up_to, sure, word_by)
 
-WIDE = (("a", 5), ("b", 5))
-# Sayings that meet just three hundred stands, and one more.
-THREE_HUNDRED = read_saying(
-    "one a y each b x both each a z either now same 1 now same x till next next now more x now more y")
-ONE_MORE = read_saying("each b z always till one b x now more x either either always now same 1 within 0 no now same z")
 MANY = (TooMany, {"word": "stands"})
 a, b = ("a", 0), ("b", 0)
 

@@ -9,8 +9,8 @@ from surewatch.tables import happenings_of
 from surewatch.watchchecker import lets_judge, lets_watcher
 from surewatch.watchers import watcher_of
 from surewatch.watchpapers import judge_paper, watcher_paper
-from tests.plain import (SMALL, STRANGE, TABLE, TWO, Maker, as_sets, ask, bent, paths_in, plain_gone, plain_holds,
-                         plain_laid, plain_number, plain_part, plain_trim)
+from tests.plain import (SMALL, STRANGE, TABLE, TWO, WIDE, Maker, as_sets, ask, bent, paths_in, plain_gone,
+                         plain_holds, plain_laid, plain_number, plain_part, plain_trim)
 
 A = ("now", ("name", "a"))
 SOME_A = ("some", A)
@@ -19,7 +19,6 @@ TILL_A = ("till", ("yes",), A)
 NONE = ()
 EACH = ((),)
 a, b = ("a", 0), ("b", 0)
-WIDE = (("a", 5), ("b", 5))
 # It meets far more than three hundred stands.
 MANY = read_saying("each a x each b y some both now same x next now same y")
 

@@ -5,13 +5,10 @@ from surewatch.judges import judge_of, judged
 from surewatch.reading import read_saying
 from surewatch.verdicts import first_sure, words
 from surewatch.watchers import is_watcher, sure_at, watched, watcher_by, watcher_of
-from tests.plain import (SMALL, STRANGE, TABLE, TWO, Maker, ask, bent, paths_in, plain_count, plain_holds, plain_led,
-                         plain_number, plain_reached, plain_word, rows_up_to, word_by)
+from tests.plain import (ONE_MORE, SMALL, STRANGE, TABLE, THREE_HUNDRED, TWO, WIDE, Maker, ask, bent, paths_in,
+                         plain_count, plain_holds, plain_led, plain_number, plain_reached, plain_word, rows_up_to,
+                         sure, word_by)
 
-WIDE = (("a", 5), ("b", 5))
-ONE_MORE = read_saying("each b z always till one b x now more x either either always now same 1 within 0 no now same z")
-THREE_HUNDRED = read_saying(
-    "one a y each b x both each a z either now same 1 now same x till next next now more x now more y")
 a, b = ("a", 0), ("b", 0)
 SOME_A = (((1, 0), (1, 1)), ("open", "yes"))
 

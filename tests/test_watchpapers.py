@@ -9,12 +9,9 @@ from surewatch.stands import alike, is_stand, laid
 from surewatch.watchchecker import lets_judge, lets_watcher
 from surewatch.watchers import is_watcher, watched, watcher_of
 from surewatch.watchpapers import judge_paper, watcher_paper
-from tests.plain import SMALL, TABLE, TWO, Maker, ask, is_trimmed, plain_holds, plain_word, rows_up_to
+from tests.plain import (ONE_MORE, SMALL, TABLE, THREE_HUNDRED, TWO, WIDE, Maker, ask, is_trimmed, plain_holds,
+                         plain_word, rows_up_to)
 
-WIDE = (("a", 5), ("b", 5))
-ONE_MORE = read_saying("each b z always till one b x now more x either either always now same 1 within 0 no now same z")
-THREE_HUNDRED = read_saying(
-    "one a y each b x both each a z either now same 1 now same x till next next now more x now more y")
 MANY = (TooMany, {"word": "stands"})
 
 

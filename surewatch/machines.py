@@ -13,7 +13,8 @@ def reached(nexts):
     seen = {0: True}
     at = 0
     while at < len(found):
-        for later in nexts[found[at]]:
+        leads = nexts[found[at]]
+        for later in leads:
             if later not in seen:
                 seen[later] = True
                 found.append(later)
@@ -38,10 +39,10 @@ def rows_to(table, nexts, goals):
     found = [spot for spot, goal in enumerate(goals) if goal]
     at = 0
     while at < len(found):
-        row = rows[found[at]]
-        for step in steps[found[at]]:
+        later = found[at]
+        for step in steps[later]:
             if rows[step[0]] is None:
-                rows[step[0]] = (happenings[step[1]],) + row
+                rows[step[0]] = (happenings[step[1]],) + rows[later]
                 found.append(step[0])
         at += 1
     return rows

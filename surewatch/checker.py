@@ -1,10 +1,9 @@
 """The small checker of verdicts: it goes on by one happening at a time from the stands told, and searches nothing."""
 
-from surewatch.bunches import laid_marks, marks_show
 from surewatch.errors import NoPaper
-from surewatch.going import Walker
 from surewatch.meaning import fits
-from surewatch.stands import ends, is_stand
+from surewatch.numbering import Numbering
+from surewatch.stands import are_stands, ends
 from surewatch.tables import happenings_of, is_paper_row
 from surewatch.words import is_tuple
 
@@ -15,12 +14,8 @@ def is_open_paper(table, thing):
     return is_paper_row(table, thing[1]) and is_paper_row(table, thing[2])
 
 
-def is_stands(thing):
-    return isinstance(thing, tuple) and all([is_stand(stand) for stand in thing])
-
-
 def is_sure_paper(thing):
-    return is_tuple(thing, 2, 2) and thing[0] in ("yes", "no") and is_stands(thing[1])
+    return is_tuple(thing, 2, 2) and thing[0] in ("yes", "no") and are_stands(thing[1], {})
 
 
 def lets_verdict(table, saying, row, told):
@@ -43,24 +38,13 @@ def lets_sure(table, saying, row, truth, stands):
     for k, stand in enumerate(stands):
         if ends(stand) != truth:
             raise NoPaper(k, "end")
-    walker = Walker()
-    several = [walker.marks.of_stand(stand) for stand in stands]
-    for k, marks in enumerate(several):
-        for happening in happenings_of(table):
-            if not is_held(walker.stand_on(marks, happening), several, truth):
-                raise NoPaper(k, "on")
-    begin = walker.stand_by(laid_marks(walker.marks, saying, True), row)
-    if not is_held(begin, several, truth):
+    numbering = Numbering()
+    numbers = numbering.of_stands(stands)
+    happenings = happenings_of(table)
+    for k, number in enumerate(numbers):
+        if not numbering.is_led_on(number, numbers, happenings, truth):
+            raise NoPaper(k, "on")
+    begin = numbering.later_by(numbering.of_saying(saying), row)
+    if not numbering.is_held(begin, numbers, truth):
         raise NoPaper(len(stands), "begin")
     return True
-
-
-# With True some of the several has to show the marks, with False the marks have to show some of them. Papers told
-# here mostly have the very marks, so these are looked for first.
-def is_held(marks, several, truth):
-    if marks in several:
-        return True
-    for one in several:
-        if (truth and marks_show(one, marks)) or (not truth and marks_show(marks, one)):
-            return True
-    return False

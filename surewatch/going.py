@@ -3,6 +3,7 @@
 from surewatch.bunches import Marks, laid_marks, marks_by, sure_marks
 from surewatch.errors import TooMany
 from surewatch.sayings import BINDERS, put_for
+from surewatch.stands import ends
 from surewatch.tables import happenings_of, passes
 
 MOST_STANDS = 300
@@ -97,8 +98,8 @@ def met(table, stand):
     return meetings(table, stand)[0]
 
 
-# The stands that a stand meets, and for each of them a tuple with the number, among them, of the stand that it goes
-# on to by each happening of the table.
+# A tuple of the stands that a stand meets; for each of them a tuple with the number, among them, of the stand that it
+# goes on to by each happening of the table; and for each whether it ends.
 def meetings(table, stand):
     walker = Walker()
     found = [walker.marks.of_stand(stand)]
@@ -118,4 +119,5 @@ def meetings(table, stand):
                 found.append(later)
             leads.append(numbers[key])
         nexts.append(tuple(leads))
-    return ([walker.marks.stand_of(marks) for marks in found], nexts)
+    stands = [walker.marks.stand_of(marks) for marks in found]
+    return (stands, nexts, [ends(one) for one in stands])

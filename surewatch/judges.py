@@ -3,7 +3,7 @@
 from surewatch.going import meetings
 from surewatch.machines import least_machine
 from surewatch.spots import columns_of, is_machine
-from surewatch.stands import ends, laid
+from surewatch.stands import laid
 from surewatch.tables import happenings_of
 
 
@@ -49,4 +49,4 @@ def least_judge(table, judge):
 
 def judge_of(table, saying):
     found = meetings(table, laid(saying, True))
-    return least_judge(table, (found[1], [ends(stand) for stand in found[0]]))
+    return least_judge(table, (found[1], found[2]))

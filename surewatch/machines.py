@@ -22,6 +22,24 @@ def reached(nexts):
     return found
 
 
+# A tuple (pairs, nexts): the pairs of spots to which rows lead from (0, 0), by the one nexts and by the other, in the
+# order in which they are come to, and for each where it leads on among them.
+def paired(one, other):
+    pairs = [(0, 0)]
+    numbers = {(0, 0): 0}
+    nexts = []
+    while len(nexts) < len(pairs):
+        pair = pairs[len(nexts)]
+        leads = []
+        for later in zip(one[pair[0]], other[pair[1]]):
+            if later not in numbers:
+                numbers[later] = len(pairs)
+                pairs.append(later)
+            leads.append(numbers[later])
+        nexts.append(tuple(leads))
+    return (pairs, nexts)
+
+
 # For each spot its steps (spot, column) from spots ahead of it.
 def steps_to(nexts):
     steps = [[] for leads in nexts]

@@ -18,9 +18,26 @@ def is_stand(thing):
     return isinstance(thing, tuple) and all([is_bunch(bunch) for bunch in thing])
 
 
+# The same stands come up again and again in great papers; known has what was told of each. It goes by what they are
+# written like: a list is found in no dict, and True would be found in the place of 1.
+def is_known_stand(thing, known):
+    key = repr(thing)
+    if key not in known:
+        known[key] = is_stand(thing)
+    return known[key]
+
+
+def are_stands(thing, known):
+    return isinstance(thing, tuple) and all([is_known_stand(stand, known) for stand in thing])
+
+
 def trimmed(stand):
     marks = Marks()
     return marks.stand_of(marks.of_stand(stand))
+
+
+def things_in(stand):
+    return sum([len(bunch) for bunch in stand])
 
 
 def alike(one, other):

@@ -3,12 +3,12 @@
 from surewatch.going import gone_by, meetings
 from surewatch.machines import rows_to_both, sure_word, sure_words
 from surewatch.spots import sure_among, words_along
-from surewatch.stands import ends, laid
+from surewatch.stands import laid
 
 
 def verdict(table, saying, row):
     found = meetings(table, gone_by(laid(saying, True), row))
-    rows = rows_to_both(table, found[1], [ends(stand) for stand in found[0]])[0]
+    rows = rows_to_both(table, found[1], found[2])[0]
     word = sure_word(rows[0], rows[1])
     if word == "open":
         return (word, rows[0], rows[1])
@@ -17,13 +17,12 @@ def verdict(table, saying, row):
 
 def word_of(table, stand):
     found = meetings(table, stand)
-    return sure_words(table, found[1], [ends(one) for one in found[0]])[0]
+    return sure_words(table, found[1], found[2])[0]
 
 
 def words(table, saying, row):
     found = meetings(table, laid(saying, True))
-    told = sure_words(table, found[1], [ends(stand) for stand in found[0]])
-    return words_along(table, found[1], told, row)
+    return words_along(table, found[1], sure_words(table, found[1], found[2]), row)
 
 
 def first_sure(table, saying, row):

@@ -3,18 +3,17 @@
 from surewatch.going import meetings
 from surewatch.machines import least_machine, rows_to_both, sure_word
 from surewatch.partings import parting_rows
-from surewatch.stands import ends, laid
+from surewatch.stands import laid
 
 
 def judge_paper(table, saying):
     found = meetings(table, laid(saying, True))
-    truths = [ends(stand) for stand in found[0]]
-    return least_with_paper(table, found[1], truths, found[0])
+    return least_with_paper(table, found[1], found[2], found[0])
 
 
 def watcher_paper(table, saying):
     found = meetings(table, laid(saying, True))
-    rows = rows_to_both(table, found[1], [ends(stand) for stand in found[0]])
+    rows = rows_to_both(table, found[1], found[2])
     verdicts = [sure_word(pro, con) for pro, con in rows]
     entries = [entry_of(stand, pair) for stand, pair in zip(found[0], rows)]
     return least_with_paper(table, found[1], verdicts, entries)

@@ -11,6 +11,10 @@ def is_whole(thing, least, most):
     return least <= thing and thing <= most
 
 
+def is_count(thing):
+    return isinstance(thing, int) and not isinstance(thing, bool) and thing >= 0
+
+
 def is_tuple(thing, least, most):
     return isinstance(thing, tuple) and least <= len(thing) and len(thing) <= most
 

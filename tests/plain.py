@@ -138,6 +138,28 @@ def plain_gone(stand, happening):
     return tuple(tuple(bunch) for bunch in plain_trim(found))
 
 
+def plain_by(stand, row):
+    for happening in row:
+        stand = plain_gone(stand, happening)
+    return stand
+
+
+def plain_shows(one, other):
+    return all(any(wanted <= bunch for wanted in as_sets(other)) for bunch in plain_trim(one))
+
+
+def plain_fits_stand(stand, row):
+    return any(all(plain_holds(basic, row, 0) == truth for basic, truth in bunch) for bunch in stand)
+
+
+def plain_ends(stand):
+    return plain_fits_stand(stand, ())
+
+
+def plain_room(stand):
+    return sum(len(bunch) for bunch in plain_trim(stand))
+
+
 # Without a bound on how many there are.
 def plain_met(table, stand):
     found = [tuple(tuple(bunch) for bunch in plain_trim(stand))]

@@ -7,8 +7,8 @@ from surewatch.reading import read_saying
 from surewatch.stands import laid
 from surewatch.tables import happenings_of, is_row
 from surewatch.verdicts import verdict
-from tests.plain import (SMALL, STRANGE, TABLE, TWO, Maker, as_sets, ask, bent, paths_in, plain_gone, plain_holds,
-                         plain_laid, plain_trim, plain_word)
+from tests.plain import (SMALL, STRANGE, TABLE, TWO, Maker, ask, bent, paths_in, plain_by, plain_ends, plain_gone,
+                         plain_holds, plain_laid, plain_shows, plain_word)
 
 YES = ("yes",)
 ANY = ("now", ("any",))
@@ -33,18 +33,6 @@ def no_paper(place, word):
     return (NoPaper, {"place": place, "word": word})
 
 
-def plain_shows(one, other):
-    return all(any(wanted <= bunch for wanted in as_sets(other)) for bunch in plain_trim(one))
-
-
-def plain_ends(stand):
-    return any(plain_holds_all(bunch) for bunch in stand)
-
-
-def plain_holds_all(bunch):
-    return all(plain_holds(basic, (), 0) == truth for basic, truth in bunch)
-
-
 # What 22 says, word by word, of a paper of the right shape.
 def plain_lets(table, saying, row, told):
     if told[0] == "open":
@@ -61,9 +49,7 @@ def plain_lets(table, saying, row, told):
     for k, stand in enumerate(stands):
         if not all(held(plain_gone(stand, happening)) for happening in happenings_of(table)):
             return no_paper(k, "on")
-    begin = plain_laid(saying, True)
-    for happening in row:
-        begin = plain_gone(begin, happening)
+    begin = plain_by(plain_laid(saying, True), row)
     return True if held(begin) else no_paper(len(stands), "begin")
 
 

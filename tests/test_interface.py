@@ -2,7 +2,7 @@ import importlib
 import inspect
 import unittest
 
-# What the document's interface has of functions, with their parameters in their order.
+# What the document's interface has of functions and classes, with their parameters in their order.
 INTERFACE = {
     "words": ("is_name(thing)",),
     "tables": ("is_table(thing)", "is_happening(table, thing)", "is_row(table, thing)", "is_test(thing)",
@@ -29,14 +29,30 @@ INTERFACE = {
     "joining": ("joined(table, op, one, other)", "turned(table, judge)"),
     "joinchecker": ("lets_joined(table, op, one, other, judge, paper)",),
     "joinpapers": ("join_paper(table, op, one, other)",),
+    "besidechecker": ("pairs_show(table, one, other, pairs)", "lets_beside(table, one, other, told)"),
+    "beside": ("compared(table, one, other)",),
+    "ringchecker": ("lets_settling(table, saying, told)",),
+    "settling": ("settled_by(table, saying)",),
+    "room": ("Watch(table, saying)", "taken_up(lines)"),
+}
+# And of the methods of classes.
+METHODS = {
+    ("room", "Watch"): ("say(self, thing)", "tells(self)", "room(self)", "said(self)", "stand(self)",
+                        "laid_down(self)"),
 }
 
 
 class InterfaceTest(unittest.TestCase):
 
-    def test_functions_are_there_under_their_names(self):
+    def are_there(self, held, lines):
+        for line in lines:
+            name = line.partition("(")[0]
+            self.assertEqual(name + str(inspect.signature(getattr(held, name))), line)
+
+    def test_functions_and_classes_are_there_under_their_names(self):
         for module, lines in INTERFACE.items():
-            held = importlib.import_module(f"surewatch.{module}")
-            for line in lines:
-                name = line.partition("(")[0]
-                self.assertEqual(name + str(inspect.signature(getattr(held, name))), line)
+            self.are_there(importlib.import_module(f"surewatch.{module}"), lines)
+
+    def test_methods_are_there_under_their_names(self):
+        for (module, kind), lines in METHODS.items():
+            self.are_there(getattr(importlib.import_module(f"surewatch.{module}"), kind), lines)

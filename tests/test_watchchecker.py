@@ -9,8 +9,8 @@ from surewatch.tables import happenings_of
 from surewatch.watchchecker import lets_judge, lets_watcher
 from surewatch.watchers import watcher_of
 from surewatch.watchpapers import judge_paper, watcher_paper
-from tests.plain import (SMALL, STRANGE, TABLE, TWO, WIDE, Maker, as_sets, ask, bent, paths_in, plain_gone,
-                         plain_holds, plain_laid, plain_number, plain_part, plain_trim)
+from tests.plain import (SMALL, STRANGE, TABLE, TWO, WIDE, Maker, as_sets, ask, bent, paths_in, plain_by, plain_ends,
+                         plain_gone, plain_laid, plain_number, plain_part, plain_trim)
 
 A = ("now", ("name", "a"))
 SOME_A = ("some", A)
@@ -37,16 +37,6 @@ TURNED_PAPER = ((((stand(ALL_A), (), (b,)),), ((NONE,),)), ((),))
 
 def no_watch(word, number):
     return (NoWatch, {"word": word, "number": number})
-
-
-def plain_ends(one):
-    return any(all(plain_holds(basic, (), 0) == truth for basic, truth in bunch) for bunch in one)
-
-
-def plain_by(one, row):
-    for happening in row:
-        one = plain_gone(one, happening)
-    return one
 
 
 # The faults of 34 behind shape, as (rank of the word, number), of stands by spots; faulty tells those of the words

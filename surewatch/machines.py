@@ -7,10 +7,10 @@ from surewatch.errors import TooMany
 from surewatch.tables import happenings_of
 
 
-# The spots to which rows lead from spot 0, in the order in which they are come to.
-def reached(nexts):
-    found = [0]
-    seen = {0: True}
+# The spots to which rows lead from those of the begin, in the order in which they are come to.
+def reached(nexts, begin):
+    found = list(begin)
+    seen = dict([(spot, True) for spot in begin])
     at = 0
     while at < len(found):
         leads = nexts[found[at]]
@@ -111,7 +111,7 @@ def told_apart(nexts, words, most):
 # to; groups has for each of its spots the list of those that it stands for. The spots are told apart in the order
 # in which they are come to, so the numbers that they get there are the ones wanted.
 def least_machine(nexts, words, most):
-    spots = reached(nexts)
+    spots = reached(nexts, [0])
     places = {}
     for place, spot in enumerate(spots):
         places[spot] = place

@@ -266,6 +266,39 @@ def paths_in(thing):
     return paths
 
 
+# All orders of a round, gone through one by one.
+def orders_of(rows):
+    hands = [hand for hand, row in enumerate(rows) for _ in row]
+    return sorted(set(itertools.permutations(hands)))
+
+
+def plain_woven(rounds, orders):
+    row = []
+    for rows, order in zip(rounds, orders):
+        left = [list(part) for part in rows]
+        row += [left[hand].pop(0) for hand in order]
+    return tuple(row)
+
+
+# The verdict on rounds by all orders gone through one by one, word_of telling the verdict's word on a row.
+def plain_verdict(rounds, word_of):
+    words = {word_of(plain_woven(rounds, orders))
+             for orders in itertools.product(*[orders_of(rows) for rows in rounds])}
+    return words.pop() if len(words) == 1 else "open"
+
+
+def part_at(thing, path):
+    for at in path:
+        thing = thing[at]
+    return thing
+
+
+# The thing over and over, each time with a list in the place of another one of its tuples.
+def with_lists(thing):
+    parts = [(path, part_at(thing, path)) for path in paths_in(thing)]
+    return [bent(thing, path, list(part)) for path, part in parts if isinstance(part, tuple)]
+
+
 class Maker:
     """Makes sayings, rows and stands, the same ones for the same seed."""
 
@@ -315,6 +348,18 @@ class Maker:
     def row(self, table, most):
         happenings = happenings_of(table)
         return tuple(self.pick(happenings) for _ in range(self.random.randint(0, most)))
+
+    # At most so many rounds of at most so many hands, with at most so many happenings in each.
+    def rounds(self, table, rounds, hands, most):
+        hands = self.random.randint(1, hands)
+        told = []
+        for _ in range(self.random.randint(0, rounds)):
+            rows = [() for _ in range(hands)]
+            for happening in self.row(table, most):
+                hand = self.random.randrange(hands)
+                rows[hand] += (happening,)
+            told.append(tuple(rows))
+        return tuple(told)
 
     def nexts(self, table, count):
         return tuple(tuple(self.random.randrange(count) for _ in happenings_of(table)) for _ in range(count))

@@ -4,27 +4,11 @@ from surewatch.beside import compared
 from surewatch.besidechecker import lets_beside, pairs_show
 from surewatch.errors import NoBeside
 from surewatch.going import met
-from surewatch.reading import read_saying
 from surewatch.stands import laid
 from surewatch.tables import happenings_of
 from tests.plain import (SMALL, STRANGE, TABLE, TWO, WIDE, Maker, ask, bent, paths_in, plain_ends, plain_gone,
-                         plain_holds, plain_laid, plain_shows, rows_up_to)
-
-A = ("now", ("name", "a"))
-B = ("now", ("name", "b"))
-SOME_A = ("some", A)
-ALL_A = ("always", A)
-TILL_A = ("till", ("yes",), A)
-NONE = ()
-EACH = ((),)
-a, b = ("a", 0), ("b", 0)
-# It meets far more than three hundred stands.
-MANY = read_saying("each a x each b y some both now same x next now same y")
-
-
-def stand(*basics):
-    return (tuple((basic, True) for basic in basics),)
-
+                         plain_holds, plain_laid, plain_shows, rows_up_to, with_lists)
+from tests.things import A, ALL_A, B, EACH, MANY, NONE, SOME_A, TILL_A, a, b, stand
 
 # Of SOME_A and TILL_A.
 THERE = ((stand(SOME_A), stand(TILL_A)), (EACH, EACH))
@@ -200,12 +184,8 @@ class ShapeTest(Checks):
 
     def test_lists_in_the_place_of_tuples(self):
         for told in (ALIKE, WITHIN, PARTED):
-            for path in paths_in(told):
-                part = told
-                for at in path:
-                    part = part[at]
-                if isinstance(part, tuple):
-                    self.told_is(("shape", 0), bent(told, path, list(part)))
+            for bad in with_lists(told):
+                self.told_is(("shape", 0), bad)
 
     def test_lengths(self):
         for told in (ALIKE[:2], ALIKE + ((),), WITHIN[:2], PARTED + ((),), ("alike", THERE + ((EACH,),), BACK),

@@ -1,24 +1,16 @@
 import unittest
 
 from surewatch.checker import lets_verdict
-from surewatch.errors import NoPaper
 from surewatch.going import gone_by, met
-from surewatch.reading import read_saying
 from surewatch.stands import laid
 from surewatch.tables import happenings_of, is_row
 from surewatch.verdicts import verdict
 from tests.plain import (SMALL, STRANGE, TABLE, TWO, Maker, ask, bent, paths_in, plain_by, plain_ends, plain_gone,
                          plain_holds, plain_laid, plain_shows, plain_word)
+from tests.things import A, ALL_A, EACH, MANY, NONE, SOME_A, a, b, no_paper
 
 YES = ("yes",)
 ANY = ("now", ("any",))
-A = ("now", ("name", "a"))
-B = ("now", ("name", "b"))
-SOME_A = ("some", A)
-ALL_A = ("always", A)
-NONE = ()
-EACH = ((),)
-a, b = ("a", 0), ("b", 0)
 
 
 def on(*basics):
@@ -27,10 +19,6 @@ def on(*basics):
 
 def off(*basics):
     return tuple((basic, False) for basic in basics)
-
-
-def no_paper(place, word):
-    return (NoPaper, {"place": place, "word": word})
 
 
 # What 22 says, word by word, of a paper of the right shape.
@@ -146,7 +134,7 @@ class SureTest(unittest.TestCase):
         self.assertEqual(ask(lets_verdict, TWO, ("no",), (), told), no_paper(0, "end"))
 
     def test_more_than_three_hundred_stands_are_refused_nowhere(self):
-        saying = read_saying("each a x each b y some both now same x next now same y")
+        saying = MANY
         wide = (("a", 5), ("b", 5))
         row = tuple(happenings_of(wide)) * 2
         self.assertIs(ask(lets_verdict, wide, saying, (), ("open", (), (a, b))), True)

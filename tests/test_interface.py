@@ -34,11 +34,18 @@ INTERFACE = {
     "ringchecker": ("lets_settling(table, saying, told)",),
     "settling": ("settled_by(table, saying)",),
     "room": ("Watch(table, saying)", "taken_up(lines)"),
+    "roomchecker": ("room_of(stand)", "lets_room(table, saying, thing)"),
+    "rooms": ("room_told(table, saying)",),
+    "weaving": ("woven(table, saying, rounds)", "Weave(table, saying, hands)"),
+    "weavechecker": ("woven_row(rounds, orders)", "lets_woven(table, saying, rounds, thing)"),
+    "desk": ("Desk(text)",),
 }
 # And of the methods of classes.
 METHODS = {
     ("room", "Watch"): ("say(self, thing)", "tells(self)", "room(self)", "said(self)", "stand(self)",
                         "laid_down(self)"),
+    ("weaving", "Weave"): ("say(self, hand, thing)", "meet(self)", "rounds(self)", "tells(self)", "told(self)"),
+    ("desk", "Desk"): ("say(self, row)",),
 }
 
 

@@ -1,31 +1,15 @@
 import unittest
 
-from surewatch.errors import NoPaper, NoRing
+from surewatch.errors import NoRing
 from surewatch.going import met
-from surewatch.reading import read_saying
 from surewatch.ringchecker import lets_settling
 from surewatch.settling import settled_by
 from surewatch.stands import laid
 from surewatch.tables import happenings_of
 from surewatch.verdicts import verdict
 from tests.plain import (SMALL, STRANGE, TABLE, TWO, WIDE, Maker, ask, bent, paths_in, plain_fits_stand, plain_gone,
-                         plain_holds, plain_laid, plain_shows, plain_word, rows_up_to)
-
-A = ("now", ("name", "a"))
-SOME_A = ("some", A)
-ALL_A = ("always", A)
-# No row settles it: it holds where the last happening is an a, or there is none.
-LAST_A = ("always", SOME_A)
-NONE = ()
-EACH = ((),)
-a, b = ("a", 0), ("b", 0)
-# It meets far more than three hundred stands.
-MANY = read_saying("each a x each b y some both now same x next now same y")
-
-
-def stand(*basics):
-    return (tuple((basic, True) for basic in basics),)
-
+                         plain_holds, plain_laid, plain_shows, plain_word, rows_up_to, with_lists)
+from tests.things import A, ALL_A, EACH, LAST_A, MANY, NONE, SOME_A, a, b, no_paper, stand
 
 # The stands that LAST_A meets: itself, and itself with a some.
 FIRST = stand(LAST_A)
@@ -38,10 +22,6 @@ SETTLED = ("settled", (a,), ("yes", (EACH,)))
 
 def no_ring(word, number):
     return (NoRing, {"word": word, "number": number})
-
-
-def no_paper(place, word):
-    return (NoPaper, {"place": place, "word": word})
 
 
 # What 44 says of never, word by word, of a thing of that form.
@@ -127,12 +107,8 @@ class ShapeTest(Checks):
                 self.told_is(("shape", 0), bent(NEVER, path, thing))
 
     def test_lists_in_the_place_of_tuples(self):
-        for path in paths_in(NEVER):
-            part = NEVER
-            for at in path:
-                part = part[at]
-            if isinstance(part, tuple):
-                self.told_is(("shape", 0), bent(NEVER, path, list(part)))
+        for bad in with_lists(NEVER):
+            self.told_is(("shape", 0), bad)
         self.told_is(("shape", 0), list(SETTLED), SOME_A)
         self.told_is(("shape", 0), ("settled", [a], SETTLED[2]), SOME_A)
 

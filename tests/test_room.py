@@ -10,13 +10,9 @@ from surewatch.texts import shown, shown_table
 from surewatch.verdicts import word_of, words
 from tests.plain import (ONE_MORE, SMALL, STRANGE, TABLE, THREE_HUNDRED, TWO, WIDE, Maker, as_sets, ask, is_trimmed,
                          plain_by, plain_holds, plain_laid, plain_room, plain_trim, plain_word)
+from tests.things import MANY, SOME_A, a, b
 
-MANY = (TooMany, {"word": "stands"})
-A = ("now", ("name", "a"))
-SOME_A = ("some", A)
-a, b = ("a", 0), ("b", 0)
-# It meets far more than three hundred stands.
-GREAT = read_saying("each a x each b y some both now same x next now same y")
+TOO_MANY = (TooMany, {"word": "stands"})
 
 
 def no_text(at):
@@ -120,8 +116,8 @@ class WatchTest(unittest.TestCase):
         self.assertEqual(state(other), state(watch))
 
     def test_more_than_three_hundred_stands(self):
-        self.assertEqual(ask(Watch, WIDE, ONE_MORE), MANY)
-        self.assertEqual(ask(Watch, WIDE, GREAT), MANY)
+        self.assertEqual(ask(Watch, WIDE, ONE_MORE), TOO_MANY)
+        self.assertEqual(ask(Watch, WIDE, MANY), TOO_MANY)
         watch = Watch(TABLE, THREE_HUNDRED)
         for happening in happenings_of(TABLE) * 3:
             watch.say(happening)
@@ -231,7 +227,7 @@ class TakenUpTest(unittest.TestCase):
 
     def test_more_than_three_hundred_stands(self):
         lines = [shown_table(WIDE), "said 0", "bunch", "on " + shown(ONE_MORE)]
-        self.assertEqual(ask(taken_up, lines), MANY)
+        self.assertEqual(ask(taken_up, lines), TOO_MANY)
         self.assertEqual(ask(taken_up, lines + ["bunch"]).tells(), "yes")
         self.assertEqual(ask(taken_up, lines + ["on"]), no_text(4))
 
@@ -275,7 +271,8 @@ class RefusedTest(unittest.TestCase):
     def test_texts_that_are_no_basics(self):
         for at in (3, 4, 6):
             self.bent(at, "", "on", "off", "on ", "off ", "some now name a", "on yes", "off no", "on not now any",
-                      "on both now any now any", "off either now any now any", "on now", "on some", "on some now name a ",
+                      "on both now any now any", "off either now any now any", "on now", "on some",
+                      "on some now name a ",
                       "on  some now name a", " on now any", "On now any", "on now same x", "on within 6 yes", "bunch ",
                       " bunch", "Bunch", "bunch 1", "said 3", "a.0 b.0", "onnow any", "of now any", "on now any any",
                       "on each a x now same y", "bunches")

@@ -10,22 +10,8 @@ from surewatch.watchchecker import lets_judge, lets_watcher
 from surewatch.watchers import watcher_of
 from surewatch.watchpapers import judge_paper, watcher_paper
 from tests.plain import (SMALL, STRANGE, TABLE, TWO, WIDE, Maker, as_sets, ask, bent, paths_in, plain_by, plain_ends,
-                         plain_gone, plain_laid, plain_number, plain_part, plain_trim)
-
-A = ("now", ("name", "a"))
-SOME_A = ("some", A)
-ALL_A = ("always", A)
-TILL_A = ("till", ("yes",), A)
-NONE = ()
-EACH = ((),)
-a, b = ("a", 0), ("b", 0)
-# It meets far more than three hundred stands.
-MANY = read_saying("each a x each b y some both now same x next now same y")
-
-
-def stand(*basics):
-    return (tuple((basic, True) for basic in basics),)
-
+                         plain_gone, plain_laid, plain_number, plain_part, plain_trim, with_lists)
+from tests.things import A, ALL_A, EACH, MANY, NONE, SOME_A, TILL_A, a, b, stand
 
 JUDGE = (((1, 0), (1, 1)), (False, True))
 JUDGE_PAPER = (((stand(SOME_A),), (EACH,)), ((),))
@@ -169,18 +155,10 @@ class ShapeTest(Checks):
         self.watcher_is(("shape", 0), WATCHER, bent(WATCHER_PAPER, (0, 0, 0, 1, 0, 1), False))
 
     def test_lists_in_the_place_of_tuples(self):
-        for path in paths_in(JUDGE_PAPER):
-            part = JUDGE_PAPER
-            for at in path:
-                part = part[at]
-            if isinstance(part, tuple):
-                self.judge_is(("shape", 0), JUDGE, bent(JUDGE_PAPER, path, list(part)))
-        for path in paths_in(WATCHER_PAPER):
-            part = WATCHER_PAPER
-            for at in path:
-                part = part[at]
-            if isinstance(part, tuple):
-                self.watcher_is(("shape", 0), WATCHER, bent(WATCHER_PAPER, path, list(part)))
+        for bad in with_lists(JUDGE_PAPER):
+            self.judge_is(("shape", 0), JUDGE, bad)
+        for bad in with_lists(WATCHER_PAPER):
+            self.watcher_is(("shape", 0), WATCHER, bad)
 
     def test_as_many_places_as_spots_and_one_stand_or_more(self):
         places, rows = JUDGE_PAPER

@@ -9,12 +9,11 @@ from surewatch.words import is_tuple
 
 
 def pairs_show(table, one, other, pairs):
-    return fault_of(table, one, other, pairs) is None
+    return fault_of(Numbering(), table, one, other, pairs) is None
 
 
 # The word and the number of what is met first that the pairs lack; None where they show it.
-def fault_of(table, one, other, pairs):
-    numbering = Numbering()
+def fault_of(numbering, table, one, other, pairs):
     numbers = [(numbering.of_stand(first), numbering.of_stand(second)) for first, second in pairs]
     known = dict([(pair, True) for pair in numbers])
     if not is_held_pair(numbering, numbering.of_saying(one), numbering.of_saying(other), known):
@@ -59,14 +58,15 @@ def is_beside(table, thing):
 def lets_beside(table, one, other, told):
     if not is_beside(table, told):
         raise NoBeside("shape", 0)
+    numbering = Numbering()
     if told[0] == "alike":
-        look_at_pairs(table, one, other, told[1], 0)
-        look_at_pairs(table, other, one, told[2], len(told[1]))
+        look_at_pairs(numbering, table, one, other, told[1], 0)
+        look_at_pairs(numbering, table, other, one, told[2], len(told[1]))
     elif told[0] == "within":
-        look_at_pairs(table, one, other, told[1], 0)
+        look_at_pairs(numbering, table, one, other, told[1], 0)
         look_at_row(other, one, told[2], 0)
     elif told[0] == "around":
-        look_at_pairs(table, other, one, told[1], 0)
+        look_at_pairs(numbering, table, other, one, told[1], 0)
         look_at_row(one, other, told[2], 0)
     else:
         look_at_row(one, other, told[1], 0)
@@ -74,8 +74,8 @@ def lets_beside(table, one, other, told):
     return True
 
 
-def look_at_pairs(table, one, other, pairs, ahead):
-    fault = fault_of(table, one, other, pairs)
+def look_at_pairs(numbering, table, one, other, pairs, ahead):
+    fault = fault_of(numbering, table, one, other, pairs)
     if fault is not None:
         raise NoBeside(fault[0], ahead + fault[1])
 

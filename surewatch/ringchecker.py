@@ -13,8 +13,9 @@ def lets_settling(table, saying, told):
         return lets_settled(table, saying, told[1], told[2])
     if not is_never(table, told):
         raise NoRing("shape", 0)
-    look_at_ring(table, saying, told[1], True, 0)
-    look_at_ring(table, saying, told[2], False, len(told[1]))
+    numbering = Numbering()
+    look_at_ring(numbering, table, saying, told[1], True, 0)
+    look_at_ring(numbering, table, saying, told[2], False, len(told[1]))
     return True
 
 
@@ -45,8 +46,7 @@ def lets_settled(table, saying, row, verdict):
 
 # With True each stand has to be fitted by its row, and to be led on to such as show what it goes on to; with False
 # not fitted, and what it goes on to has to show one. Ahead is the number of the first entry.
-def look_at_ring(table, saying, entries, truth, ahead):
-    numbering = Numbering()
+def look_at_ring(numbering, table, saying, entries, truth, ahead):
     numbers = numbering.of_stands([entry[0] for entry in entries])
     if not numbering.is_held(numbering.of_saying(saying), numbers, truth):
         raise NoRing("begin", ahead)
